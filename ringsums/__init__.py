@@ -1,0 +1,1 @@
+"""Ringsums: sums that are handed round a ring."""

@@ -1,0 +1,92 @@
+"""What several tests use: the plans of the document, any values, and a play told straight."""
+
+from ringsums.forms import Form
+from ringsums.plans import Block, Lane, Plan
+from ringsums.plays import Slip
+
+ONCE = "rounds n-1\nup - 0 add\nrounds n-1\nup - 1 put"
+HALF = (
+    "rounds (n)/2\nup - (n)/2 add\ndown + (n+1)/2 add\n"
+    "rounds (n)/2\nup - 0 put\ndown + 0 put"
+)
+
+# Several lanes, both ways, both signs, both deeds, a put ahead of an add, and a block of no rounds for few machines.
+MIXED = (
+    "rounds n-2\nup + 1 add\ndown + n-1 put\n"
+    "rounds 2\ndown - -1 put\nup - (3n-1)/2 add\nup - 0 add\n"
+    "rounds 1\ndown + 2 add"
+)
+
+
+def nested(depth):
+    """Return a list that is nested so deep."""
+    value = [1]
+    for _ in range(depth - 1):
+        value = [value]
+    return value
+
+
+def any_values():
+    """Return values of every kind."""
+    lane = Lane("up", "+", Form(1), "add")
+    block = Block(Form(1), [lane])
+    return [
+        None, True, False, 0, 1, -1, 7, 10 ** 9, "", "n", "up", "+", "add", "lost", "times", [], (), [None], (0,),
+        [True], [[]], ((),), [[1, 2], [3]], [lane, 1], (block, lane), nested(8), lane, block, Form(), Form(0, 1),
+        Plan(), Plan([block]), Slip("lost", 0, 0, 0),
+    ]
+
+
+def straight_play(plan, rows, slips=()):
+    """Return the rows in the end, machine by machine and number by number, as the document tells it."""
+    n = len(rows)
+    length = len(rows[0])
+    rows = [list(row) for row in rows]
+    wrong = {(slip.turn, slip.machine, slip.lane): slip.kind for slip in slips}
+    turn = 0
+    for block in plan.blocks:
+        for t in range(max(0, block.rounds(n))):
+            start = [list(row) for row in rows]
+            for at, lane in enumerate(block.lanes):
+                for i in range(n):
+                    shift = lane.shift(n)
+                    piece = (i + t + shift) % n if lane.sign == "+" else (i - t + shift) % n
+                    goal = (i + 1) % n if lane.way == "up" else (i - 1) % n
+                    kind = wrong.get((turn, i, at))
+                    for _ in range({"lost": 0, "again": 2, None: 1}[kind]):
+                        for place in range(piece * length // n, (piece + 1) * length // n):
+                            if lane.deed == "add":
+                                rows[goal][place] += start[i][place]
+                            else:
+                                rows[goal][place] = start[i][place]
+            turn += 1
+    return tuple(tuple(row) for row in rows)
+
+
+def sendings(plan, n):
+    """Return turn, machine and lane of all sendings, ascending."""
+    blocks = [block for block in plan.blocks for _ in range(max(0, block.rounds(n)))]
+    return [
+        (turn, machine, lane)
+        for turn, block in enumerate(blocks) for machine in range(n) for lane in range(len(block.lanes))
+    ]
+
+
+def sample_rows(n, length):
+    """Return rows in which all numbers are different, some below 0."""
+    return [[(machine + 2) * 1000 ** (machine % 2) - 37 * at for at in range(length)] for machine in range(n)]
+
+
+class ErrorChecks:
+    """For test cases: which error is raised, and what it keeps."""
+
+    def check_word(self, error, word, call, *args, **more):
+        with self.assertRaises(error) as caught:
+            call(*args, **more)
+        self.assertEqual(caught.exception.word, word)
+
+    def check_at(self, error, at, call, *args, **more):
+        with self.assertRaises(error) as caught:
+            call(*args, **more)
+        self.assertIs(caught.exception.__class__, error)
+        self.assertEqual(caught.exception.at, at)
