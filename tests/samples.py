@@ -1,5 +1,8 @@
-"""What several tests use: the plans of the document, any values, and a play told straight."""
+"""What several tests use: the plans of the document, any values, and plays and tables told straight."""
 
+import doctest
+
+from ringsums.calendars import Calendar
 from ringsums.forms import Form
 from ringsums.plans import Block, Lane, Plan
 from ringsums.plays import Slip
@@ -17,6 +20,28 @@ MIXED = (
     "rounds 1\ndown + 2 add"
 )
 
+# Right for all n: as half, but with an even n the one opposite is added from one side only.
+FAIR = (
+    "rounds (n)/2\nup - (n)/2 add\nrounds (n-1)/2\ndown + (n+2)/2 add\n"
+    "rounds (n)/2\nup - 0 put\ndown + 0 put"
+)
+
+TEXTS = {
+    "once": ONCE,
+    "half": HALF,
+    "mixed": MIXED,
+    "up plus": "rounds n\nup + 0 add",
+    "up minus": "rounds n+1\nup - n-1 put\nrounds 2\nup - 0 add",
+    "down plus": "rounds (n+1)/2\ndown + -2 add",
+    "down minus": "rounds 3\ndown - (n)/2 add",
+    "both ways": "rounds n\nup + 0 add\ndown - 1 add",
+    "put ahead of add": "rounds 3\nup - 0 put\nup - 0 add",
+    "add ahead of put": "rounds 3\nup - 0 add\nup - 0 put",
+    "from both sides": "rounds n\nup - 1 put\ndown + n+1 add\nup + 2 add",
+    "no rounds": "rounds -3\nup + 0 add",
+    "nothing": "",
+}
+
 
 def nested(depth):
     """Return a list that is nested so deep."""
@@ -33,8 +58,16 @@ def any_values():
     return [
         None, True, False, 0, 1, -1, 7, 10 ** 9, "", "n", "up", "+", "add", "lost", "times", [], (), [None], (0,),
         [True], [[]], ((),), [[1, 2], [3]], [lane, 1], (block, lane), nested(8), lane, block, Form(), Form(0, 1),
-        Plan(), Plan([block]), Slip("lost", 0, 0, 0),
+        Plan(), Plan([block]), Slip("lost", 0, 0, 0), Calendar(), Calendar([1], 3, 2, [1]),
     ]
+
+
+def examples_outcome(text, name):
+    """Return how many examples of a text failed and how many there are; what section 1 names is there."""
+    names = {"Plan": Plan, "once": Plan.read(ONCE), "half": Plan.read(HALF)}
+    test = doctest.DocTestParser().get_doctest(text, names, name, None, None)
+    outcome = doctest.DocTestRunner().run(test)
+    return outcome.failed, outcome.attempted
 
 
 def straight_play(plan, rows, slips=()):
@@ -61,6 +94,23 @@ def straight_play(plan, rows, slips=()):
                                 rows[goal][place] = start[i][place]
             turn += 1
     return tuple(tuple(row) for row in rows)
+
+
+def straight_tables(plan, n):
+    """Return for each machine the table that it has in the end, by a play in which each number is told by a digit."""
+    # No number grows more than fivefold in a round of at most four lanes.
+    base = 1 << (3 * plan.all_rounds(n) + 1)
+    rows = straight_play(plan, [[base ** i] * n for i in range(n)])
+    return [
+        tuple(tuple(rows[i][(i + d) % n] // base ** ((i + e) % n) % base for e in range(n)) for d in range(n))
+        for i in range(n)
+    ]
+
+
+def straight_faults(table):
+    """Return the faults of a table."""
+    counts = [count for line in table for count in line]
+    return ("doubled",) * (max(counts) > 1) + ("lacking",) * (min(counts) == 0)
 
 
 def sendings(plan, n):

@@ -2,9 +2,13 @@
 
 import unittest
 
+from ringsums.calendars import Calendar
+from ringsums.comparing import alike, needless, parting, repairs, same_for, spare
+from ringsums.deciding import bound_of, happens, is_right, period_of, right, shows
 from ringsums.forms import Form
 from ringsums.plans import Block, Lane, Plan
 from ringsums.plays import Slip, play, suspects
+from ringsums.tables import faults_at, held, spots
 from samples import HALF, ONCE, any_values, nested
 
 
@@ -13,11 +17,24 @@ class TestConventions(unittest.TestCase):
         lane = Lane("up", "-", Form(1), "add")
         block = Block(Form(1), [lane])
         plan = Plan([block, block])
-        return [Form(1, 2, 3), lane, block, plan, Plan(), Slip("lost", 0, 0, 0), play(plan, [[1], [2]])]
+        return [
+            Form(1, 2, 3), lane, block, plan, Plan(), Slip("lost", 0, 0, 0), play(plan, [[1], [2]]), Calendar(),
+            Calendar([1], 4, 2, [0]),
+        ]
+
+    def answers(self, p, q):
+        """Return what all functions that take plans alone tell of two plans."""
+        return [
+            held(p, 4), faults_at(p, 4), spots(p, 4, "doubled"), period_of(p), bound_of(p), right(p),
+            happens(p, "doubled"), is_right(p), shows(p, "doubled"), same_for(p, q), alike(p, q), parting(p, q),
+            needless(p), repairs(p), spare(p, 1),
+        ]
 
     def test_no_object_is_iterable(self):
         for thing in self.objects():
-            for walk in (iter, list, tuple, sorted, sum, enumerate, lambda xs: [*xs], lambda xs: 1 in xs):
+            walks = [iter, list, tuple, sorted, sum, enumerate, lambda xs: [*xs], lambda xs: 1 in xs]
+            # A calendar tells what is in it, but is not iterated over for this.
+            for walk in walks[:-1] if isinstance(thing, Calendar) else walks:
                 with self.subTest(thing.__class__.__name__):
                     with self.assertRaises(TypeError):
                         walk(thing)
@@ -32,7 +49,9 @@ class TestConventions(unittest.TestCase):
     def test_deep_values_raise_only_what_is_told(self):
         deep = nested(8)
         for make in (lambda: Form(deep), lambda: Lane("up", "+", deep, "add"), lambda: Block(Form(), deep),
-                     lambda: Plan(deep), lambda: play(Plan(), deep), lambda: Slip(deep, 0, 0, 0)):
+                     lambda: Plan(deep), lambda: play(Plan(), deep), lambda: Slip(deep, 0, 0, 0),
+                     lambda: Calendar(deep), lambda: Calendar((), deep), lambda: Calendar((), 1, 1, deep),
+                     lambda: spots(Plan(), 1, deep), lambda: happens(Plan(), deep), lambda: shows(Plan(), deep)):
             with self.assertRaises(ValueError):
                 make()
 
@@ -42,6 +61,17 @@ class TestConventions(unittest.TestCase):
         played = play(plan=plan, rows=[[1], [2]], slips=[slip])
         self.assertEqual(played.rows, play(plan, [[1], [2]], [slip]).rows)
         self.assertIn(slip, suspects(plan=plan, rows=[[1], [2]], seen=played.rows))
+
+    def test_plans_and_all_else_by_name(self):
+        p, q = Plan.read(ONCE), Plan.read(HALF)
+        named = [
+            held(n=4, plan=p), faults_at(n=4, plan=p), spots(fault="doubled", n=4, plan=p), period_of(plan=p),
+            bound_of(plan=p), right(plan=p), happens(fault="doubled", plan=p), is_right(plan=p),
+            shows(fault="doubled", plan=p), same_for(q=q, p=p), alike(q=q, p=p), parting(q=q, p=p), needless(plan=p),
+            repairs(plan=p), spare(at=1, plan=p),
+        ]
+        self.assertEqual(named, self.answers(p, q))
+        self.assertEqual(Calendar(rests=[1], period=2, start=3, few=[2]), Calendar([2], 3, 2, [1]))
 
     def test_lists_that_are_changed_behind_the_call(self):
         lane = Lane("up", "-", Form(0, 1), "add")
@@ -60,6 +90,19 @@ class TestConventions(unittest.TestCase):
         self.assertEqual(play(plan, played.rows).rows, ((10, 14, 18), (10, 14, 18)))
         self.assertEqual(Plan(plan.blocks), plan)
         self.assertEqual(Block(plan[0].rounds, plan[0].lanes), plan[0])
+        calendar = right(Plan.read(HALF))
+        again = Calendar(calendar.few, calendar.start, calendar.period, calendar.rests)
+        self.assertEqual(again, calendar)
+        self.assertEqual(again & ~calendar, Calendar())
+
+    def test_sequences_that_are_returned_are_tuples(self):
+        p, q = Plan.read(ONCE), Plan.read(HALF)
+        calendar = Calendar([2], 3, 2, [1])
+        for found in (held(p, 2), faults_at(p, 2), spots(q, 2, "doubled"), shows(q, "doubled"), parting(p, q),
+                      needless(p), repairs(p), calendar.few, calendar.rests, calendar.share):
+            self.assertIsInstance(found, tuple)
+        for found in (held(p, 2)[0], spots(q, 2, "doubled")[0], repairs(p)[0]):
+            self.assertIsInstance(found, tuple)
 
     def test_the_same_call_returns_an_equal_result(self):
         rows = [[1, 2, 3], [4, 5, 6]]
@@ -67,6 +110,9 @@ class TestConventions(unittest.TestCase):
         plans = [Plan.read(ONCE), Plan.read(HALF)]
         first = [play(plan, rows, [slip]) for plan in plans]
         self.assertEqual([play(plan, rows, [slip]) for plan in plans], first)
+        answers = self.answers(*plans), self.answers(*plans[::-1])
+        self.assertEqual((self.answers(*plans), self.answers(*plans[::-1])), answers)
+        self.assertEqual(plans, [Plan.read(ONCE), Plan.read(HALF)])
         self.assertNotEqual(play(plans[0], rows), first[0])
         self.assertNotEqual(first[0], first[1])
 

@@ -21,6 +21,19 @@ NAMES = {
         "Plan": ["__init__", "all_rounds", "without", "read", "__len__", "__getitem__", "__add__", "__eq__", "__str__"],
     },
     "plays": {"cuts": None, "Slip": ["__init__", "__eq__"], "play": None, "Played": [], "suspects": None},
+    "tables": {"held": None, "faults_at": None, "spots": None},
+    "calendars": {
+        "Calendar": [
+            "__init__", "least", "size", "share", "__contains__", "__invert__", "__and__", "__or__", "__sub__",
+            "__xor__", "__le__", "__lt__", "__ge__", "__gt__", "__eq__", "__str__",
+        ],
+    },
+    "deciding": {
+        "period_of": None, "bound_of": None, "right": None, "happens": None, "is_right": None, "shows": None,
+    },
+    "comparing": {
+        "same_for": None, "alike": None, "parting": None, "needless": None, "repairs": None, "spare": None,
+    },
 }
 
 

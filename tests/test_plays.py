@@ -1,13 +1,14 @@
 """Promises [8] to [11]: playing, slips, and what is refused."""
 
-import doctest
 import unittest
 
 from ringsums.errors import InvalidRows, InvalidSlip, Refused
 from ringsums.forms import Form
 from ringsums.plans import Plan
 from ringsums.plays import Played, Slip, cuts, play
-from samples import HALF, MIXED, ONCE, ErrorChecks, any_values, nested, sample_rows, sendings, straight_play
+from samples import (
+    HALF, MIXED, ONCE, TEXTS, ErrorChecks, any_values, examples_outcome, nested, sample_rows, sendings, straight_play,
+)
 
 # As they stand in section 6 of the document.
 EXAMPLES = r'''
@@ -20,29 +21,10 @@ EXAMPLES = r'''
     (((10, 22), (10, 22)), ((21, 24), (21, 24)))
 '''
 
-TEXTS = {
-    "once": ONCE,
-    "half": HALF,
-    "mixed": MIXED,
-    "up plus": "rounds n\nup + 0 add",
-    "up minus": "rounds n+1\nup - n-1 put\nrounds 2\nup - 0 add",
-    "down plus": "rounds (n+1)/2\ndown + -2 add",
-    "down minus": "rounds 3\ndown - (n)/2 add",
-    "both ways": "rounds n\nup + 0 add\ndown - 1 add",
-    "put ahead of add": "rounds 3\nup - 0 put\nup - 0 add",
-    "add ahead of put": "rounds 3\nup - 0 add\nup - 0 put",
-    "from both sides": "rounds n\nup - 1 put\ndown + n+1 add\nup + 2 add",
-    "no rounds": "rounds -3\nup + 0 add",
-    "nothing": "",
-}
-
 
 class TestExamples(unittest.TestCase):
     def test_section_6(self):
-        names = {"once": Plan.read(ONCE), "half": Plan.read(HALF)}
-        test = doctest.DocTestParser().get_doctest(EXAMPLES, names, "section 6", None, None)
-        outcome = doctest.DocTestRunner().run(test)
-        self.assertEqual((outcome.failed, outcome.attempted), (0, 4))
+        self.assertEqual(examples_outcome(EXAMPLES, "section 6"), (0, 4))
 
 
 class TestCuts(unittest.TestCase):
