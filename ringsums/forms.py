@@ -1,7 +1,7 @@
 """Forms: integers that are told by the number of machines."""
 
 from ringsums.errors import InvalidForm, InvalidText
-from ringsums.kinds import is_whole
+from ringsums.kinds import is_whole, whole_in
 
 
 class Form:
@@ -62,7 +62,7 @@ def _parts(text):
     by = 1
     if text.startswith("("):
         upper, _, lower = text[1:].partition(")/")
-        by = _whole(lower)
+        by = whole_in(lower)
     times, plus = _upper_parts(upper)
     # The reading is lax (it takes 1n, n+0, (n)/1); only the very text of the form may pass.
     if None in (times, plus, by) or _text(times, plus, by) != text:
@@ -74,8 +74,8 @@ def _upper_parts(upper):
     """Return times and plus, None for what cannot be read."""
     front, mark, behind = upper.partition("n")
     if mark == "":
-        return 0, _whole(front)
-    plus = 0 if behind == "" else _whole(behind.removeprefix("+"))
+        return 0, whole_in(front)
+    plus = 0 if behind == "" else whole_in(behind.removeprefix("+"))
     return _factor(front), plus
 
 
@@ -85,10 +85,4 @@ def _factor(word):
         return 1
     if word == "-":
         return -1
-    return _whole(word)
-
-
-def _whole(word):
-    """Return the integer that a word tells, or None."""
-    digits = word.removeprefix("-")
-    return int(word) if digits.isascii() and digits.isdigit() else None
+    return whole_in(word)

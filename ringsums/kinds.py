@@ -14,3 +14,9 @@ def is_number(value):
 def is_sequence(value):
     """Tell whether any value is a list or a tuple."""
     return isinstance(value, (list, tuple))
+
+
+def whole_in(word):
+    """Return the integer that a word tells, perhaps with zeros ahead of it, or None."""
+    digits = word.removeprefix("-")
+    return int(word) if digits.isascii() and digits.isdigit() else None

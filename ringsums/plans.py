@@ -7,6 +7,8 @@ from ringsums.kinds import is_number, is_sequence
 WAYS = ("up", "down")
 SIGNS = ("+", "-")
 DEEDS = ("add", "put")
+# How far up each way leads.
+STEPS = {"up": 1, "down": -1}
 
 
 class Lane:

@@ -2,6 +2,7 @@
 
 from ringsums.errors import InvalidRows, InvalidSlip, Refused
 from ringsums.kinds import is_number, is_sequence, is_whole
+from ringsums.plans import STEPS
 
 # In ascending order, as suspects are told.
 KINDS = ("again", "lost")
@@ -41,7 +42,7 @@ class Played:
     def __init__(self, rows, sums, sent):
         self.rows = rows
         self.sums = sums
-        self.is_right = all([row == sums for row in rows])
+        self.is_right = are_all(rows, sums)
         self.sent = sent
 
     def __eq__(self, other):
@@ -54,14 +55,19 @@ def play(plan, rows, slips=()):
     check_rows(rows)
     n = len(rows)
     turns = turns_of(plan, n)
-    comings = comings_of(slips, turns, n)
-    ends = [_end_of(piece, cells, turns, comings) for piece, cells in enumerate(columns_of(rows))]
-    return Played(rows_of(ends), sums_of(rows), handed_on(turns, n, len(rows[0])))
+    numbered = dict(enumerate(turns))
+    ends = rows_after(rows, numbered, comings_of(slips, numbered, n))
+    return Played(ends, sums_of(rows), handed_on(turns, n, len(rows[0])))
 
 
-def _end_of(piece, cells, turns, comings):
-    """Return what the machines have of a piece in the end, from what they have at first."""
-    for turn, (block, t) in enumerate(turns):
+def rows_after(rows, turns, comings):
+    """Return the rows after some rounds, told by their numbers, from those ahead of them."""
+    return rows_of([_cells_after(piece, cells, turns, comings) for piece, cells in enumerate(columns_of(rows))])
+
+
+def _cells_after(piece, cells, turns, comings):
+    """Return what the machines have of a piece after some rounds, from what they have ahead of them."""
+    for turn, (block, t) in turns.items():
         hops = hops_in(block, t, len(cells), piece)
         cells = do_hops(cells, with_slips(hops, turn, comings))
     return cells
@@ -127,7 +133,7 @@ def _is_row(row):
 
 
 def comings_of(slips, turns, n):
-    """Return how often each sending with a slip comes, by its turn, machine and lane."""
+    """Return how often each sending with a slip comes, in rounds told by their numbers."""
     comings = {}
     for at, slip in enumerate(slips):
         sending = (slip.turn, slip.machine, slip.lane)
@@ -139,7 +145,7 @@ def comings_of(slips, turns, n):
 
 def _is_there(slip, turns, n):
     """Tell whether there is the sending of a slip."""
-    if slip.turn >= len(turns) or slip.machine >= n:
+    if slip.turn not in turns or slip.machine >= n:
         return False
     block, _ = turns[slip.turn]
     return slip.lane < len(block.lanes)
@@ -161,8 +167,7 @@ def hops_in(block, t, n, piece):
     hops = []
     for lane in block.lanes:
         machine = (piece - drift(lane, t, n)) % n
-        step = 1 if lane.way == "up" else -1
-        hops.append((machine, (machine + step) % n, lane.deed))
+        hops.append((machine, (machine + STEPS[lane.way]) % n, lane.deed))
     return hops
 
 
@@ -203,6 +208,11 @@ def rows_of(columns):
 def sums_of(rows):
     """Return the whole sums of rows."""
     return tuple([sum([row[at] for row in rows]) for at in range(len(rows[0]))])
+
+
+def are_all(rows, sums):
+    """Tell whether each of the rows is the sums."""
+    return all([row == sums for row in rows])
 
 
 def handed_on(turns, n, length):

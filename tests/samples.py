@@ -3,9 +3,11 @@
 import doctest
 
 from ringsums.calendars import Calendar
+from ringsums.desk import Desk
 from ringsums.forms import Form
+from ringsums.live import Ring
 from ringsums.plans import Block, Lane, Plan
-from ringsums.plays import Slip
+from ringsums.plays import Slip, play
 
 ONCE = "rounds n-1\nup - 0 add\nrounds n-1\nup - 1 put"
 HALF = (
@@ -58,7 +60,8 @@ def any_values():
     return [
         None, True, False, 0, 1, -1, 7, 10 ** 9, "", "n", "up", "+", "add", "lost", "times", [], (), [None], (0,),
         [True], [[]], ((),), [[1, 2], [3]], [lane, 1], (block, lane), nested(8), lane, block, Form(), Form(0, 1),
-        Plan(), Plan([block]), Slip("lost", 0, 0, 0), Calendar(), Calendar([1], 3, 2, [1]),
+        Plan(), Plan([block]), Slip("lost", 0, 0, 0), Calendar(), Calendar([1], 3, 2, [1]), Desk(),
+        Ring(Plan(), [[1], [2]]), play(Plan(), [[1], [2]]),
     ]
 
 
@@ -70,13 +73,13 @@ def examples_outcome(text, name):
     return outcome.failed, outcome.attempted
 
 
-def straight_play(plan, rows, slips=()):
-    """Return the rows in the end, machine by machine and number by number, as the document tells it."""
+def straight_course(plan, rows, slips=()):
+    """Return the rows ahead of each round and in the end, machine by machine and number by number, as it is told."""
     n = len(rows)
     length = len(rows[0])
     rows = [list(row) for row in rows]
+    course = [tuple(tuple(row) for row in rows)]
     wrong = {(slip.turn, slip.machine, slip.lane): slip.kind for slip in slips}
-    turn = 0
     for block in plan.blocks:
         for t in range(max(0, block.rounds(n))):
             start = [list(row) for row in rows]
@@ -85,15 +88,20 @@ def straight_play(plan, rows, slips=()):
                     shift = lane.shift(n)
                     piece = (i + t + shift) % n if lane.sign == "+" else (i - t + shift) % n
                     goal = (i + 1) % n if lane.way == "up" else (i - 1) % n
-                    kind = wrong.get((turn, i, at))
+                    kind = wrong.get((len(course) - 1, i, at))
                     for _ in range({"lost": 0, "again": 2, None: 1}[kind]):
                         for place in range(piece * length // n, (piece + 1) * length // n):
                             if lane.deed == "add":
                                 rows[goal][place] += start[i][place]
                             else:
                                 rows[goal][place] = start[i][place]
-            turn += 1
-    return tuple(tuple(row) for row in rows)
+            course.append(tuple(tuple(row) for row in rows))
+    return course
+
+
+def straight_play(plan, rows, slips=()):
+    """Return the rows in the end."""
+    return straight_course(plan, rows, slips)[-1]
 
 
 def straight_tables(plan, n):

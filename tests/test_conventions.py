@@ -4,8 +4,13 @@ import unittest
 
 from ringsums.calendars import Calendar
 from ringsums.comparing import alike, needless, parting, repairs, same_for, spare
+from ringsums.costs import ends, hops, lean, pace, rooms, sent
 from ringsums.deciding import bound_of, happens, is_right, period_of, right, shows
+from ringsums.desk import Desk
+from ringsums.errors import RingError
+from ringsums.fewest import schedule, schedule_holds
 from ringsums.forms import Form
+from ringsums.live import Ring
 from ringsums.plans import Block, Lane, Plan
 from ringsums.plays import Slip, play, suspects
 from ringsums.tables import faults_at, held, spots
@@ -19,7 +24,7 @@ class TestConventions(unittest.TestCase):
         plan = Plan([block, block])
         return [
             Form(1, 2, 3), lane, block, plan, Plan(), Slip("lost", 0, 0, 0), play(plan, [[1], [2]]), Calendar(),
-            Calendar([1], 4, 2, [0]),
+            Calendar([1], 4, 2, [0]), Ring(plan, [[1], [2]]), Ring(plan, [[1], [2]]).trial(), Desk(),
         ]
 
     def answers(self, p, q):
@@ -27,7 +32,8 @@ class TestConventions(unittest.TestCase):
         return [
             held(p, 4), faults_at(p, 4), spots(p, 4, "doubled"), period_of(p), bound_of(p), right(p),
             happens(p, "doubled"), is_right(p), shows(p, "doubled"), same_for(p, q), alike(p, q), parting(p, q),
-            needless(p), repairs(p), spare(p, 1),
+            needless(p), repairs(p), spare(p, 1), pace(p), sent(p, 4, 6), hops(p, 4), lean(p), ends(p, [0, 7, 0]),
+            rooms(p, [0, 7, 0]),
         ]
 
     def test_no_object_is_iterable(self):
@@ -51,9 +57,12 @@ class TestConventions(unittest.TestCase):
         for make in (lambda: Form(deep), lambda: Lane("up", "+", deep, "add"), lambda: Block(Form(), deep),
                      lambda: Plan(deep), lambda: play(Plan(), deep), lambda: Slip(deep, 0, 0, 0),
                      lambda: Calendar(deep), lambda: Calendar((), deep), lambda: Calendar((), 1, 1, deep),
-                     lambda: spots(Plan(), 1, deep), lambda: happens(Plan(), deep), lambda: shows(Plan(), deep)):
-            with self.assertRaises(ValueError):
+                     lambda: spots(Plan(), 1, deep), lambda: happens(Plan(), deep), lambda: shows(Plan(), deep),
+                     lambda: Ring(Plan(), deep), lambda: Ring(Plan(), [[1], [2]]).fall(deep),
+                     lambda: Desk().say(deep)):
+            with self.assertRaises(RingError):
                 make()
+        self.assertIs(schedule_holds(2, 1, deep), False)
 
     def test_arguments_by_name(self):
         plan = Plan(blocks=[Block(rounds=Form(times=1), lanes=[Lane(way="up", sign="-", shift=Form(), deed="add")])])
@@ -68,7 +77,8 @@ class TestConventions(unittest.TestCase):
             held(n=4, plan=p), faults_at(n=4, plan=p), spots(fault="doubled", n=4, plan=p), period_of(plan=p),
             bound_of(plan=p), right(plan=p), happens(fault="doubled", plan=p), is_right(plan=p),
             shows(fault="doubled", plan=p), same_for(q=q, p=p), alike(q=q, p=p), parting(q=q, p=p), needless(plan=p),
-            repairs(plan=p), spare(at=1, plan=p),
+            repairs(plan=p), spare(at=1, plan=p), pace(plan=p), sent(length=6, n=4, plan=p), hops(n=4, plan=p),
+            lean(plan=p), ends(late=[0, 7, 0], plan=p), rooms(late=[0, 7, 0], plan=p),
         ]
         self.assertEqual(named, self.answers(p, q))
         self.assertEqual(Calendar(rests=[1], period=2, start=3, few=[2]), Calendar([2], 3, 2, [1]))
@@ -84,6 +94,38 @@ class TestConventions(unittest.TestCase):
         blocks.append(block)
         self.assertEqual((str(block), str(plan), len(plan), plan.all_rounds(5)), before)
 
+    def test_sequences_that_are_changed_behind_the_call(self):
+        few, rests = [2, 4], [1]
+        calendar = Calendar(few, 5, 2, rests)
+        few.clear()
+        rests.append(0)
+        self.assertEqual(calendar, Calendar([2, 4], 5, 2, [1]))
+        plan = Plan.read(ONCE)
+        rows, late, slips = [[1, 2], [3, 4]], [0, 3], [Slip("lost", 0, 0, 0)]
+        ring = Ring(plan, rows)
+        played = play(plan, rows, slips)
+        told = ends(plan, late), rooms(plan, late)
+        ring.step(slips)
+        self.assertEqual((rows, late, slips), ([[1, 2], [3, 4]], [0, 3], [Slip("lost", 0, 0, 0)]))
+        rows[0].clear()
+        rows.append(7)
+        slips.clear()
+        late.pop()
+        self.assertEqual((ring.firsts, ring.rest(), played.sums), (((1, 2), (3, 4)), played.rows, (4, 6)))
+        self.assertEqual(told, (ends(plan, (0, 3)), rooms(plan, (0, 3))))
+
+    def test_in_place_operators_return_new_objects(self):
+        plan, calendar = Plan.read(ONCE), Calendar([2], 5, 2, [1])
+        longer, more, less, same, other = plan, calendar, calendar, calendar, calendar
+        longer += plan
+        more |= Calendar([3], 4)
+        less -= Calendar([2], 3)
+        same &= calendar
+        other ^= calendar
+        self.assertEqual((plan, calendar), (Plan.read(ONCE), Calendar([2], 5, 2, [1])))
+        self.assertEqual((len(longer), str(more), str(less), same, other),
+                         (4, "2 from 3 of 2: 1", "- from 4 of 2: 1", calendar, Calendar()))
+
     def test_what_is_returned_can_be_passed_on(self):
         plan = Plan.read(ONCE)
         played = play(plan, [[1, 2, 3], [4, 5, 6]])
@@ -98,8 +140,11 @@ class TestConventions(unittest.TestCase):
     def test_sequences_that_are_returned_are_tuples(self):
         p, q = Plan.read(ONCE), Plan.read(HALF)
         calendar = Calendar([2], 3, 2, [1])
+        ring = Ring(p, [[1], [2]])
         for found in (held(p, 2), faults_at(p, 2), spots(q, 2, "doubled"), shows(q, "doubled"), parting(p, q),
-                      needless(p), repairs(p), calendar.few, calendar.rests, calendar.share):
+                      needless(p), repairs(p), calendar.few, calendar.rests, calendar.share, pace(p), sent(p, 2, 2),
+                      ends(p, [1, 2]), ends(Plan(), [1, 2]), schedule(2, 2), schedule(1, 1), ring.rows, ring.firsts,
+                      ring.rest()):
             self.assertIsInstance(found, tuple)
         for found in (held(p, 2)[0], spots(q, 2, "doubled")[0], repairs(p)[0]):
             self.assertIsInstance(found, tuple)

@@ -2,6 +2,7 @@
 
 import ast
 import importlib
+import inspect
 import pathlib
 import unittest
 
@@ -34,7 +35,65 @@ NAMES = {
     "comparing": {
         "same_for": None, "alike": None, "parting": None, "needless": None, "repairs": None, "spare": None,
     },
+    "costs": {"pace": None, "sent": None, "hops": None, "lean": None, "ends": None, "rooms": None},
+    "fewest": {"fewest": None, "schedule": None, "schedule_holds": None},
+    "live": {
+        "Ring": ["__init__", "step", "rest", "fall", "change", "hopes", "undo", "trial", "within", "__len__"],
+    },
+    "desk": {"Desk": ["__init__", "say"]},
 }
+
+# The parameters as the document tells them; self and cls are left out.
+PARAMETERS = {
+    "errors": {
+        "InvalidForm": "(word)", "InvalidLane": "(word)", "InvalidBlock": "(word)", "InvalidText": "(at)",
+        "InvalidRows": "(at)", "InvalidSlip": "(word)", "InvalidCalendar": "(word)", "Refused": "(at)",
+        "NoBlock": "(at)",
+    },
+    "forms": {"Form": "(times=0, plus=0, by=1)", "Form.__call__": "(n)", "Form.read": "(text)"},
+    "plans": {
+        "Lane": "(way, sign, shift, deed)", "Block": "(rounds, lanes)", "Plan": "(blocks=())",
+        "Plan.all_rounds": "(n)", "Plan.without": "(at)", "Plan.read": "(text)",
+    },
+    "plays": {
+        "cuts": "(length, n)", "Slip": "(kind, turn, machine, lane)", "play": "(plan, rows, slips=())",
+        "suspects": "(plan, rows, seen)",
+    },
+    "tables": {"held": "(plan, n)", "faults_at": "(plan, n)", "spots": "(plan, n, fault)"},
+    "calendars": {"Calendar": "(few=(), start=1, period=1, rests=())"},
+    "deciding": {
+        "period_of": "(plan)", "bound_of": "(plan)", "right": "(plan)", "happens": "(plan, fault)",
+        "is_right": "(plan)", "shows": "(plan, fault)",
+    },
+    "comparing": {
+        "same_for": "(p, q)", "alike": "(p, q)", "parting": "(p, q)", "needless": "(plan)", "repairs": "(plan)",
+        "spare": "(plan, at)",
+    },
+    "costs": {
+        "pace": "(plan)", "sent": "(plan, n, length)", "hops": "(plan, n)", "lean": "(plan)", "ends": "(plan, late)",
+        "rooms": "(plan, late)",
+    },
+    "fewest": {"fewest": "(n, ways)", "schedule": "(n, ways)", "schedule_holds": "(n, ways, value)"},
+    "live": {
+        "Ring": "(plan, rows)", "Ring.step": "(slips=())", "Ring.rest": "()", "Ring.fall": "(machine)",
+        "Ring.change": "(plan)", "Ring.hopes": "()", "Ring.undo": "()", "Ring.trial": "()", "Ring.within": "(work)",
+    },
+    "desk": {"Desk": "()", "Desk.say": "(command)"},
+}
+
+
+def parameters_of(module, name):
+    """Return the text of the parameters of a function, a class or a method."""
+    holder, _, method = name.partition(".")
+    thing = getattr(importlib.import_module(f"ringsums.{module}"), holder)
+    if method == "":
+        return str(inspect.signature(thing))
+    # What is bound to an object of its class has its first parameter no more.
+    bound = getattr(thing, method)
+    told = inspect.signature(bound)
+    if not inspect.ismethod(bound):
+        told = told.replace(parameters=list(told.parameters.values())[1:])
+    return str(told)
 
 
 def trees():
@@ -51,6 +110,16 @@ class TestInterface(unittest.TestCase):
                 self.assertEqual(thing.__module__, f"ringsums.{module}")
                 for method in methods or []:
                     self.assertIn(method, vars(thing), f"{name}.{method}")
+
+    def test_all_modules_of_the_interface(self):
+        self.assertEqual(set(PARAMETERS), set(NAMES))
+        self.assertLessEqual({f"{module}.py" for module in NAMES}, set(trees()))
+
+    def test_parameters(self):
+        for module, names in PARAMETERS.items():
+            for name, told in names.items():
+                with self.subTest(f"{module}.{name}"):
+                    self.assertEqual(parameters_of(module, name), told)
 
     def test_init_is_only_a_docstring(self):
         body = trees()["__init__.py"].body
