@@ -6,12 +6,14 @@ from ringsums.calendars import calendar_from
 from ringsums.deciding import bound_from, is_right, period_of, reach_of, right, sweeps_of
 from ringsums.forms import Form
 from ringsums.plans import Block, Lane, Plan
-from ringsums.tables import marks_at, parted_pairs
+from ringsums.settling import settled_from
+from ringsums.tables import first_pair, marks_at, parted_bits
 
 
 def same_for(p, q):
     """Return the calendar of all numbers of machines for which two plans do the same."""
-    flags = [marks_at(p, n) == marks_at(q, n) for n in range(1, _end_of(p, q))]
+    found = _sames_found(p, q)
+    flags = [_is_same_at(found, p, q, n) for n in range(1, _end_of(p, q))]
     return calendar_from(flags, _period_of_both(p, q))
 
 
@@ -25,16 +27,39 @@ def parting(p, q):
     n = _first_parting(p, q)
     if n is None:
         return None
-    d, e = parted_pairs(marks_at(p, n), marks_at(q, n))[0]
+    d, e = first_pair(parted_bits(marks_at(p, n), marks_at(q, n)))
     return n, d, e
 
 
 def _first_parting(p, q):
     """Return the least number of machines for which two plans do not do the same, or None."""
+    found = _sames_found(p, q)
     for n in range(1, _end_of(p, q)):
-        if marks_at(p, n) != marks_at(q, n):
+        if not _is_same_at(found, p, q, n):
             return n
     return None
+
+
+def _is_same_at(found, p, q, n):
+    """Tell whether two plans do the same for n machines, which is looked for only once."""
+    while len(found) < n:
+        machines = len(found) + 1
+        found.append(marks_at(p, machines) == marks_at(q, machines))
+    return found[n - 1]
+
+
+def _sames_found(p, q):
+    """Return the list of whether two plans do the same for 1, 2 and so on machines, as far as this is known.
+
+    Both plans keep it, until they are compared with other ones. Plans with one text do the same.
+    """
+    front, behind = str(p), str(q)
+    found = p.found.get("sames", {}).get(behind)
+    if found is None:
+        found = q.found.get("sames", {}).get(front, [])
+    p.found["sames"] = {behind: found}
+    q.found["sames"] = {front: found}
+    return found
 
 
 def _period_of_both(p, q):
@@ -46,7 +71,8 @@ def _end_of(p, q):
     """Return the number of machines ahead of which all that two plans do has been seen."""
     period = _period_of_both(p, q)
     reach = max(int(reach_of(p)), reach_of(q))
-    return bound_from(period, reach, sweeps_of(p) + sweeps_of(q)) + period
+    bound = bound_from(period, reach, sweeps_of(p) + sweeps_of(q))
+    return min(int(bound), settled_from(period, [p, q])) + period
 
 
 def needless(plan):

@@ -3,7 +3,8 @@
 from math import lcm
 
 from ringsums.calendars import calendar_from
-from ringsums.tables import check_fault, faults_at, spots
+from ringsums.settling import settled_from
+from ringsums.tables import check_fault, faults_at, first_pair, marks_at, wrong_bits
 
 
 def period_of(plan):
@@ -65,21 +66,21 @@ def sweeps_of(plan):
 
 def right(plan):
     """Return the calendar of all numbers of machines for which a plan is right."""
-    flags = [len(faults_at(plan, n)) == 0 for n in range(1, _end_of(plan))]
+    flags = [len(_faults_found(plan, n)) == 0 for n in range(1, _end_of(plan))]
     return calendar_from(flags, period_of(plan))
 
 
 def happens(plan, fault):
     """Return the calendar of all numbers of machines with which a fault is there."""
     check_fault(fault)
-    flags = [fault in faults_at(plan, n) for n in range(1, _end_of(plan))]
+    flags = [fault in _faults_found(plan, n) for n in range(1, _end_of(plan))]
     return calendar_from(flags, period_of(plan))
 
 
 def is_right(plan):
     """Tell whether a plan is right for all numbers of machines."""
     for n in range(1, _end_of(plan)):
-        if len(faults_at(plan, n)) > 0:
+        if len(_faults_found(plan, n)) > 0:
             return False
     return True
 
@@ -88,12 +89,21 @@ def shows(plan, fault):
     """Return the least number of machines with which a fault is there and its first spot, or None."""
     check_fault(fault)
     for n in range(1, _end_of(plan)):
-        if fault in faults_at(plan, n):
-            d, e = spots(plan, n, fault)[0]
+        if fault in _faults_found(plan, n):
+            d, e = first_pair(wrong_bits(marks_at(plan, n), fault))
             return n, d, e
     return None
 
 
+def _faults_found(plan, n):
+    """Return the faults that are there with n machines, which are looked for only once."""
+    found = plan.found.setdefault("faults", [])
+    while len(found) < n:
+        found.append(faults_at(plan, len(found) + 1))
+    return found[n - 1]
+
+
 def _end_of(plan):
     """Return the number of machines ahead of which all that there is has been seen."""
-    return bound_of(plan) + period_of(plan)
+    period = period_of(plan)
+    return min(int(bound_of(plan)), settled_from(period, [plan])) + period

@@ -68,6 +68,8 @@ class Plan:
         if not is_sequence(blocks) or not all([isinstance(block, Block) for block in blocks]):
             raise InvalidPlan()
         self.blocks = tuple(blocks)
+        # What was found out about the plan, for those who ask again: no answer depends on what is here.
+        self.found = {}
 
     def all_rounds(self, n):
         """Return the number of all rounds for n machines."""

@@ -24,13 +24,14 @@ def _seen_from(machine, counts):
 def faults_at(plan, n):
     """Return the faults that are there with n machines."""
     marks = marks_at(plan, n)
-    return tuple([fault for fault in FAULTS if any([bits != 0 for bits in _wrong_bits(marks, fault)])])
+    return tuple([fault for fault in FAULTS if any(wrong_bits(marks, fault))])
 
 
 def spots(plan, n, fault):
     """Return the pairs (d, e) of the table that show a fault."""
     check_fault(fault)
-    return _pairs_of(_wrong_bits(marks_at(plan, n), fault))
+    bits = wrong_bits(marks_at(plan, n), fault)
+    return tuple([(d, e) for d in range(n) for e in _line_of(bits, d)])
 
 
 def check_fault(fault):
@@ -46,32 +47,52 @@ def marks_at(plan, n):
     """
     marks = [1 << (n + machine) for machine in range(n)]
     for block in plan.blocks:
-        marks = _swept(block, marks)
+        marks = _marks_behind(block, marks)
     return marks
 
 
-def _swept(block, marks):
+def _marks_behind(block, marks):
     """Return the marks after a block, from those ahead of it."""
     n = len(marks)
+    rounds = max(0, int(block.rounds(n)))
+    sweeps = _sweeps_in(block, n, min(rounds, len(marks)))
+    # After n rounds the same hops come again, so once they change nothing they never will.
+    while rounds > n:
+        before = marks
+        marks = _swept(sweeps, before, n)
+        rounds = rounds % n if marks == before else rounds - n
+    return _swept(sweeps, marks, rounds)
+
+
+def _sweeps_in(block, n, rounds):
+    """Return for each lane of a block which machines hand piece 0 on, to which, and whether it is put there."""
+    sweeps = []
+    for lane, (machine, goal, deed) in zip(block.lanes, hops_in(block, 0, n, 0)):
+        sweeps.append((_course(machine, lane, n, rounds), _course(goal, lane, n, rounds), deed == "put"))
+    return sweeps
+
+
+def _course(machine, lane, n, rounds):
+    """Return the machines that have the place of this one in the rounds of a block, n at the most."""
+    if lane.sign == "-":
+        return (list(range(machine, n)) + list(range(machine)))[:rounds]
+    return (list(range(machine, -1, -1)) + list(range(n - 1, machine, -1)))[:rounds]
+
+
+def _swept(sweeps, marks, rounds):
+    """Return the marks after some rounds of a block, from those ahead of them."""
+    n = len(marks)
     after = list(marks)
-    # Each round has the hops of the first one, moved on by one machine for each round.
-    hops = hops_in(block, 0, n, 0)
-    alongs = [1 if lane.sign == "-" else -1 for lane in block.lanes]
-    for t in range(block.rounds(n)):
-        came = [after[(hop[0] + t * along) % n] for hop, along in zip(hops, alongs)]
-        for mark, (_, goal, deed), along in zip(came, hops, alongs):
-            at = (goal + t * along) % n
-            after[at] = mark if deed == "put" else _added(after[at], mark, n)
+    for t in range(rounds):
+        came = [after[machines[t]] for machines, _, _ in sweeps]
+        for mark, (_, goals, is_put) in zip(came, sweeps):
+            own = after[goals[t]]
+            # What is in both is there twice then; the shift drops the bits of what was there twice already.
+            after[goals[t]] = mark if is_put else own | mark | ((own & mark) >> n)
     return after
 
 
-def _added(own, came, n):
-    """Return the mark of a sum from those of its two parts."""
-    # What is in both is there twice then; the shift drops the bits of what was there twice already.
-    return own | came | ((own & came) >> n)
-
-
-def _wrong_bits(marks, fault):
+def wrong_bits(marks, fault):
     """Return for each machine the bits of the machines whose numbers show a fault in its sum of piece 0."""
     n = len(marks)
     every = (1 << n) - 1
@@ -80,14 +101,22 @@ def _wrong_bits(marks, fault):
     return [every ^ (mark >> n) for mark in marks]
 
 
-def parted_pairs(marks, others):
-    """Return the pairs (d, e) at which the tables part that two plans have, from the marks of both."""
+def parted_bits(marks, others):
+    """Return for each machine n bits (and others) of the machines whose numbers two plans have otherwise in its sum."""
     n = len(marks)
     parted = [mark ^ other for mark, other in zip(marks, others)]
-    return _pairs_of([bits | (bits >> n) for bits in parted])
+    # Any other bit that is left tells that one of the n bits is there, too.
+    return [bits | (bits >> n) for bits in parted]
 
 
-def _pairs_of(bits):
-    """Return the pairs (d, e) of a table for which the first n bits of machine -d have that of machine e - d."""
+def first_pair(bits):
+    """Return the first pair (d, e) of a table that such bits tell, if there is one."""
     n = len(bits)
-    return tuple([(d, e) for d in range(n) for e in range(n) if (bits[-d % n] >> ((e - d) % n)) & 1 == 1])
+    lines = [d for d in range(n) if bits[-d % n] != 0]
+    return lines[0], _line_of(bits, lines[0])[0]
+
+
+def _line_of(bits, d):
+    """Return all e of the pairs (d, e) of a table: machine -d has the bit of machine e - d."""
+    n = len(bits)
+    return [e for e in range(n) if (bits[-d % n] >> ((e - d) % n)) & 1 == 1]

@@ -145,6 +145,24 @@ class TestFaults(unittest.TestCase):
                 with self.subTest(text, n=n):
                     self.assertEqual(faults_at(plan, n), straight_faults(held(plan, n)))
 
+    def test_many_times_round_the_ring(self):
+        # Once nothing changes any more, and again and again.
+        lanes = [
+            "up - 0 add", "up - 0 put", "up + 0 put", "down - 1 add", "down - 0 put\nup - 1 put",
+            "up - 0 put\ndown - 2 put", "up + (n)/2 put\ndown + 0 put", "up - 0 add\ndown + 0 put",
+            "up - (n)/2 add\ndown + 0 add\nup - 1 add", "up - 0 add\nup - 0 put", "down - 2 put\nup + -1 add",
+        ]
+        for rounds in ("n", "2n", "2n+1", "3n-1", "5n+2", "(9n)/2", "11", "7n", "-2n+12"):
+            for told in lanes:
+                for more in ("", "\nrounds n+2\nup - 1 put\ndown + 1 add"):
+                    plan = Plan.read(f"rounds {rounds}\n{told}{more}")
+                    for n in (1, 2, 3, 4, 7):
+                        with self.subTest(str(plan), n=n):
+                            table = held(plan, n)
+                            self.assertEqual(faults_at(plan, n), straight_faults(table))
+                            wrong = [(d, e) for d in range(n) for e in range(n) if table[d][e] > 1]
+                            self.assertEqual(spots(plan, n, "doubled"), tuple(wrong))
+
     def test_right_if_a_play_is(self):
         for text in all_texts():
             plan = Plan.read(text)
